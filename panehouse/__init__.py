@@ -1,0 +1,1 @@
+"""Panehouse: boxes within boxes, laid out by rules."""

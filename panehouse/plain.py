@@ -1,0 +1,24 @@
+"""What a number and a name are, for all files."""
+
+MOST_NAME_SIGNS = 8
+LETTERS = "abcdefghijklmnopqrstuvwxyz"
+NAME_SIGNS = "abcdefghijklmnopqrstuvwxyz0123456789"
+
+
+def is_number(thing):
+    # Python counts True and False among the whole numbers; the document doesn't.
+    return isinstance(thing, int) and not isinstance(thing, bool) and thing >= 0
+
+
+def is_number_list(thing):
+    return isinstance(thing, list) and all([is_number(n) for n in thing])
+
+
+def has_only(text, signs):
+    return all([sign in signs for sign in text])
+
+
+def is_name(thing):
+    if not isinstance(thing, str) or not 1 <= len(thing) <= MOST_NAME_SIGNS:
+        return False
+    return thing[0] in LETTERS and has_only(thing, NAME_SIGNS)

@@ -1,0 +1,227 @@
+"""The package's files keep to the small part of Python: the rules that a walk through the code can see."""
+
+import ast
+import builtins
+import pathlib
+import re
+import unittest
+
+PACKAGE = pathlib.Path(__file__).resolve().parent.parent / "panehouse"
+
+OWN_NAMES = set("""len range enumerate zip min max sum abs sorted reversed int str bool list tuple dict set frozenset
+isinstance ord repr any all divmod Exception ValueError TypeError KeyError IndexError LookupError ZeroDivisionError
+ArithmeticError OverflowError RuntimeError NotImplementedError AttributeError StopIteration""".split())
+METHODS = set("""append clear copy count endswith extend find get index insert isalnum isalpha isdigit islower isspace
+isupper items join keys ljust lower lstrip partition pop remove replace reverse rfind rjust rpartition rsplit rstrip
+setdefault split splitlines startswith strip update upper values zfill bit_length""".split())
+WORDS_OUT = re.compile(r"\b(type|typing|typing_extensions|enum|Enum|IntEnum|StrEnum|Flag|IntFlag|Generic|Protocol|ABC|"
+                       r"ABCMeta|namedtuple|NamedTuple|TypedDict|TYPE_CHECKING|abstractmethod)\b"
+                       r"|dataclass|overload|contextmanager")
+NAMES_OUT = set("""register mro elements open input version_info with_traceback add_note attrgetter breakpoint builtins
+compile copyright credits delattr dir eval exec exit gc getattr globals hasattr help id importlib license locals
+methodcaller os quit setattr super vars sys""".split())
+PLAIN_NAME = re.compile(r"[A-Za-z][A-Za-z0-9_]*\Z")
+TWO_UNDERSCORES = ("__init__", "__eq__", "__repr__", "__str__", "__len__")
+STATEMENTS = (ast.Assign, ast.AugAssign, ast.If, ast.While, ast.For, ast.Return, ast.Break, ast.Continue, ast.Pass,
+              ast.Raise, ast.Try, ast.Expr, ast.FunctionDef, ast.ClassDef, ast.ImportFrom)
+EXPRESSIONS = (ast.Constant, ast.List, ast.Tuple, ast.Dict, ast.BinOp, ast.UnaryOp, ast.Compare, ast.BoolOp, ast.IfExp,
+               ast.Call, ast.Attribute, ast.Subscript, ast.Slice, ast.ListComp, ast.JoinedStr, ast.FormattedValue,
+               ast.Name, ast.Lambda)
+PLAIN_VALUES = (ast.Constant, ast.List, ast.Tuple, ast.Dict, ast.Name, ast.UnaryOp, ast.USub, ast.Load)
+
+
+def sign_faults(text):
+    faults = []
+    if not all(sign == "\n" or " " <= sign <= "~" for sign in text):
+        faults.append("L14 a sign")
+    rows = text.split("\n")
+    if len(rows) > 401 or max(len(one) for one in rows) > 120:
+        faults.append("L10 size")
+    if WORDS_OUT.search(text):
+        faults.append("L17 a word")
+    return faults
+
+
+def top_faults(tree):
+    faults = []
+    bound = []
+    for place, node in enumerate(tree.body):
+        if isinstance(node, (ast.FunctionDef, ast.ClassDef)):
+            bound.append(node.name)
+        elif isinstance(node, ast.ImportFrom):
+            bound.extend(alias.name for alias in node.names)
+        elif isinstance(node, ast.Assign):
+            bound.extend(target.id for target in node.targets)
+            if not all(isinstance(part, PLAIN_VALUES) for part in ast.walk(node.value)):
+                faults.append("L3 no plain value")
+        elif not (place == 0 and isinstance(node, ast.Expr) and isinstance(node.value, ast.Constant)):
+            faults.append("L3 the top")
+    if len(set(bound)) != len(bound):
+        faults.append("L15 a name twice")
+    return faults
+
+
+def statement_faults(node):
+    if not isinstance(node, STATEMENTS):
+        return ["L6 a statement"]
+    if isinstance(node, ast.Assign) and (len(node.targets) != 1 or isinstance(node.targets[0], (ast.Tuple, ast.List))):
+        return ["L6 one target"]
+    if isinstance(node, (ast.For, ast.While)) and node.orelse:
+        return ["L6 else behind a loop"]
+    if isinstance(node, ast.Try) and (node.finalbody or any(one.type is None for one in node.handlers)):
+        return ["L6 try"]
+    if isinstance(node, ast.FunctionDef):
+        return function_faults(node)
+    if isinstance(node, ast.ClassDef):
+        return class_faults(node)
+    if isinstance(node, ast.ImportFrom):
+        own = node.level == 0 and (node.module or "").startswith("panehouse.")
+        return [] if own and not any(one.asname or one.name == "*" for one in node.names) else ["L2 an import"]
+    return []
+
+
+def function_faults(node):
+    faults = []
+    held = node.args
+    if node.end_lineno - node.lineno + 1 > 40:
+        faults.append("L10 a function's size")
+    if held.vararg or held.kwarg or held.kwonlyargs or held.posonlyargs or node.decorator_list:
+        faults.append("L4 a function")
+    return faults
+
+
+def class_faults(node):
+    if node.decorator_list or node.keywords or len(node.bases) > 1:
+        return ["L5 a class"]
+    return [] if all(isinstance(one, (ast.FunctionDef, ast.Pass)) for one in node.body) else ["L5 a class's body"]
+
+
+def is_truth(node):
+    return isinstance(node, ast.Constant) and (node.value is None or isinstance(node.value, bool))
+
+
+def expression_faults(node):
+    if not isinstance(node, EXPRESSIONS):
+        return ["L7 an expression"]
+    faults = []
+    if isinstance(node, ast.Constant):
+        if node.value is not None and not isinstance(node.value, (int, str)):
+            faults.append("L7 a value")
+        if isinstance(node.value, str) and "%" in node.value:
+            faults.append("L27 a percent sign")
+    if isinstance(node, ast.BinOp) and isinstance(node.op, (ast.Div, ast.MatMult)):
+        faults.append("L7 an operator")
+    if isinstance(node, ast.ListComp) and (len(node.generators) > 1 or len(node.generators[0].ifs) > 1):
+        faults.append("L7 a comprehension")
+    if isinstance(node, ast.Compare) and any(isinstance(op, (ast.Is, ast.IsNot)) for op in node.ops):
+        if not is_truth(node.left) and not is_truth(node.comparators[0]):
+            faults.append("L20 is")
+    return faults
+
+
+def bound_names(tree):
+    names = []
+    for node in ast.walk(tree):
+        if isinstance(node, ast.Name) and isinstance(node.ctx, ast.Store):
+            names.append(node.id)
+        elif isinstance(node, ast.arg):
+            names.append(node.arg)
+        elif isinstance(node, (ast.FunctionDef, ast.ClassDef)):
+            names.append(node.name)
+        elif isinstance(node, ast.ImportFrom):
+            names.extend(alias.name for alias in node.names)
+        elif isinstance(node, ast.ExceptHandler) and node.name:
+            names.append(node.name)
+    return names
+
+
+def method_names(trees):
+    return {one.name for tree in trees for node in ast.walk(tree) if isinstance(node, ast.ClassDef)
+            for one in node.body if isinstance(one, ast.FunctionDef)}
+
+
+def name_faults(tree, own_methods):
+    faults = []
+    bound = bound_names(tree)
+    for name in bound:
+        if name not in TWO_UNDERSCORES and not PLAIN_NAME.match(name):
+            faults.append("L12 " + name)
+        if name in NAMES_OUT and name not in own_methods:
+            faults.append("L17 " + name)
+        if hasattr(builtins, name) and name not in own_methods:
+            faults.append("L15 " + name)
+    for node in ast.walk(tree):
+        if isinstance(node, ast.Name) and node.id not in bound and node.id not in OWN_NAMES:
+            faults.append("L8 " + node.id)
+        if isinstance(node, ast.Call) and isinstance(node.func, ast.Attribute):
+            if node.func.attr not in METHODS and node.func.attr not in own_methods:
+                faults.append("L25 " + node.func.attr)
+    return faults
+
+
+def faults_of(text, own_methods=()):
+    tree = ast.parse(text)
+    faults = sign_faults(text) + top_faults(tree) + name_faults(tree, own_methods)
+    for node in ast.walk(tree):
+        if isinstance(node, ast.stmt):
+            faults += statement_faults(node)
+        elif isinstance(node, ast.expr):
+            faults += expression_faults(node)
+        if isinstance(node, ast.Expr) and not isinstance(node.value, ast.Call) and node not in tree.body:
+            faults.append("L6 a value by itself")
+    return faults
+
+
+def package_texts():
+    return {path.stem: path.read_text(encoding="utf-8") for path in sorted(PACKAGE.glob("*.py"))}
+
+
+def drawn_from(tree):
+    return [(node.module.split(".")[1], alias.name) for node in tree.body if isinstance(node, ast.ImportFrom)
+            for alias in node.names]
+
+
+class Form(unittest.TestCase):
+    def test_the_package_holds_python_files_alone(self):
+        for path in PACKAGE.iterdir():
+            if path.name != "__pycache__":
+                self.assertRegex(path.name, r"\A([a-z][a-z0-9_]*|__init__|__main__)\.py\Z")
+
+    def test_each_file_keeps_to_the_rules(self):
+        texts = package_texts()
+        self.assertIn("__init__", texts)
+        own_methods = method_names([ast.parse(text) for text in texts.values()])
+        for stem, text in texts.items():
+            with self.subTest(stem):
+                self.assertEqual(faults_of(text, own_methods), [])
+
+    def test_names_are_drawn_from_the_file_that_defines_them(self):
+        trees = {stem: ast.parse(text) for stem, text in package_texts().items()}
+        for stem, tree in trees.items():
+            for source, name in drawn_from(tree):
+                with self.subTest((stem, source, name)):
+                    top = [node for node in trees[source].body if not isinstance(node, ast.ImportFrom)]
+                    self.assertIn(name, bound_names(ast.Module(top, [])))
+
+    def test_no_two_files_draw_from_one_another(self):
+        left = {stem: {source for source, name in drawn_from(ast.parse(text))}
+                for stem, text in package_texts().items()}
+        # __init__.py is drawn from by all, so it draws from none.
+        self.assertEqual(left["__init__"], set())
+        while left:
+            free = [stem for stem, sources in left.items() if not sources & set(left)]
+            self.assertTrue(free, left)
+            for stem in free:
+                del left[stem]
+
+    def test_what_breaks_a_rule_is_seen(self):
+        wrong = ["import sys", "from os import path", "from .errors import x", "x = 1 / 2", "x = 1.5", "x = f(1)",
+                 "x = 1\nx = 2", "def f(*a):\n    pass", "def f():\n    'why'", "def f(a):\n    a = b = 1",
+                 "def f(a):\n    a, b = 1, 2", "def f():\n    assert 1", "def f(a):\n    return a is 5",
+                 "def f(a):\n    return {b for b in a}", "def f(a):\n    return all(b for b in a)",
+                 "def f(a):\n    return a.casefold()", "def f(list):\n    pass", "def f(a):\n    return hash(a)",
+                 "class A:\n    x = 1", "def _f():\n    pass", "x = 'type'", "x = '\u00e9'", "x = '%'",
+                 "def f():\n" + "    pass\n" * 40, "x = '" + "a" * 120 + "'"]
+        for text in wrong:
+            with self.subTest(text):
+                self.assertNotEqual(faults_of(text), [])

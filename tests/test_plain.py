@@ -1,0 +1,48 @@
+import string
+import unittest
+
+from samples import not_numbers
+from panehouse.plain import is_name, is_number, is_number_list
+
+
+class Numbers(unittest.TestCase):
+    def test_numbers(self):
+        for n in [0, 1, 60, 9999, 10 ** 3999]:
+            self.assertIs(is_number(n), True)
+
+    def test_no_numbers(self):
+        for thing in not_numbers():
+            with self.subTest(repr(thing)):
+                self.assertIs(is_number(thing), False)
+
+    def test_lists_of_numbers(self):
+        self.assertIs(is_number_list([]), True)
+        self.assertIs(is_number_list([0, 1]), True)
+
+    def test_no_lists_of_numbers(self):
+        for thing in [(), (1,), None, "", "12", {}, {1: 1}, 5, [True], [0, False], [-1], [1.0], [[1]], [None]]:
+            with self.subTest(repr(thing)):
+                self.assertIs(is_number_list(thing), False)
+
+
+class Names(unittest.TestCase):
+    def test_names(self):
+        for name in list(string.ascii_lowercase) + ["a1", "z0123456", "abcdefgh", "a0000000"]:
+            with self.subTest(name):
+                self.assertIs(is_name(name), True)
+
+    def test_all_signs_behind_the_first(self):
+        for sign in string.ascii_lowercase + string.digits:
+            self.assertIs(is_name("a" + sign), True)
+
+    def test_no_names(self):
+        wrong = ["", "abcdefghi", "1", "1a", "0a", "A", "aB", "a_", "_a", "a-b", "a b", " a", "a ", "a\n", "\n",
+                 "\u00e9", "a\u00e9", "a\u0663", "\u0430", "a\u00b2", "a.b", "#a"]
+        for name in wrong:
+            with self.subTest(name):
+                self.assertIs(is_name(name), False)
+
+    def test_no_texts(self):
+        for thing in not_numbers() + [3, ["a"], ("a",), {"a": 1}, b"a"]:
+            with self.subTest(repr(thing)):
+                self.assertIs(is_name(thing), False)
