@@ -1,7 +1,7 @@
 """Boxes: what a document is, and looking boxes up in it."""
 
 from panehouse.errors import NoBox, NoName
-from panehouse.plain import has_only, is_name, is_number
+from panehouse.plain import has_only, is_name, is_within
 
 KINDS = ("blank", "words", "row", "flow", "column", "grid", "pile")
 KIDLESS = ("blank", "words")
@@ -39,7 +39,7 @@ def is_more(kind, thing):
     if kind == "words":
         return is_words_text(thing)
     if kind == "grid":
-        return is_number(thing) and 1 <= thing <= MOST_COLUMNS
+        return is_within(thing, 1, MOST_COLUMNS)
     return thing is None
 
 

@@ -10,6 +10,10 @@ def is_number(thing):
     return isinstance(thing, int) and not isinstance(thing, bool) and thing >= 0
 
 
+def is_within(thing, least, most):
+    return is_number(thing) and least <= thing <= most
+
+
 def is_number_list(thing):
     return isinstance(thing, list) and all([is_number(n) for n in thing])
 

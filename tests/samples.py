@@ -1,5 +1,7 @@
-"""Documents, wrong things and a share told another way, for several tests."""
+"""Documents, rules, wrong things and a share told another way, for several tests."""
 
+import random
+import unittest
 from unittest import mock
 
 
@@ -10,6 +12,14 @@ class Odd:
         return True
 
     __hash__ = None
+
+
+class Refusing(unittest.TestCase):
+    def refused_as(self, refusal, deed, *handed):
+        """Refused with that very class, not with one below or above it."""
+        with self.assertRaises(refusal) as caught:
+            deed(*handed)
+        self.assertIs(type(caught.exception), refusal)
 
 
 # Nothing of these is a number, a list, a tuple, or a name of a box.
@@ -60,6 +70,88 @@ def crowd(many):
         groups.append(row(f"g{at}", *[blank(f"g{at}k{k}") for k in range(mine - 1)]))
         left -= mine
     return row("root", *groups)
+
+
+def wide_row(name, many):
+    """A row of so many kids."""
+    return row(name, *[blank(f"k{at}") for at in range(many)])
+
+
+def text_of_80():
+    return " ".join(["a" * 20, "B" * 20, "3" * 20, "d" * 17])
+
+
+def no_documents():
+    """Things that are no document: of another form, and one more than each bound."""
+    return STRANGE + [0, (), [], ("row",), list(blank("a")), blank("A"), blank("a") + ((),), wide_row("a", 13),
+                      crowd(41), chain(9), row("a", blank("a")), words("a", "x" * 21), ("row", "a", (), None, []),
+                      ("grid", "a", (), 10, ()), ("grid", "a", (), True, ())]
+
+
+def no_rules():
+    """Things that are no rules: of another form, and one more than each bound."""
+    good = (1, (), (("pad", 1),))
+    return STRANGE + [0, 5, good, [list(good)], [good[:2]], [good + (0,)], [good] * 41, [(100, (), (("pad", 1),))],
+                      [(True, (), (("pad", 1),))], [(1, (), ())], [(1, (), (("pad", 10),))],
+                      [(1, (("first",),) * 5, good[2])], [good, None], (good, [])]
+
+
+DRAWN_NAMES = ["red", "big", "left", "a1", "x"]
+
+
+def drawn_text(chance):
+    text = ""
+    for many in range(chance.randrange(6)):
+        word = "".join(chance.choice("aZb0Y9") for at in range(chance.choice([1, 2, 5, 20])))
+        longer = word if text == "" else text + " " + word
+        text = longer if len(longer) <= 80 else text
+    return text
+
+
+def drawn_box(chance, names, deep):
+    """A box that takes its names, one after the other, from the end of the list."""
+    kinds = ["blank", "words"] + ([] if deep == 8 else ["row", "flow", "column", "grid", "pile"] * 2)
+    kind = chance.choice(kinds)
+    name = names.pop()
+    tags = tuple(chance.sample(DRAWN_NAMES, chance.choice([0, 0, 1, 2, 4])))
+    more = {"words": drawn_text(chance), "grid": chance.randint(1, 9)}.get(kind)
+    kids = []
+    if kind not in ("blank", "words"):
+        for many in range(chance.choice([1, 2, 3, 12])):
+            if names:
+                kids.append(drawn_box(chance, names, deep + 1))
+    return (kind, name, tags, more, tuple(kids))
+
+
+def drawn_document(seed):
+    chance = random.Random(seed)
+    names = [f"n{at}" for at in range(chance.choice([1, 5, 20, 38]))] + DRAWN_NAMES[:2]
+    chance.shuffle(names)
+    return drawn_box(chance, names, 1)
+
+
+KINDS = ["blank", "words", "row", "flow", "column", "grid", "pile"]
+SIGNS = [chr(at) for at in range(33, 127) if at != 37]
+SIZES = [("hold",), ("fixed", 0), ("fixed", 1), ("fixed", 399), ("fixed", 400),
+         ("share", 1), ("share", 2), ("share", 99)]
+# Of each property, in their order, values at their bounds and between.
+VALUES = {"wide": SIZES, "high": SIZES, "leastw": [0, 1, 400], "mostw": [0, 1, 400], "leasth": [0, 1, 400],
+          "mosth": [0, 1, 400], "pad": [0, 1, 9], "gap": [0, 1, 5, 9], "over": [False, True], "able": [False, True],
+          "fill": ["", "a"] + SIGNS, "ink": ["as", "great", "small"]}
+TESTS = ([("kind", kind) for kind in KINDS] + [("in", kind) for kind in KINDS] + [("first",), ("last",)]
+         + [("nth", n) for n in range(1, 13)]
+         + [(word, name) for word in ["name", "tag", "under"] for name in DRAWN_NAMES])
+
+
+def drawn_rules(seed, many=40):
+    chance = random.Random(seed)
+    rules = []
+    for at in range(many):
+        tests = tuple(chance.choice(TESTS) for test in range(chance.choice([0, 1, 1, 1, 2, 4])))
+        words_set = chance.sample(list(VALUES), chance.choice([1, 2, 3, 12]))
+        sets = tuple((word, chance.choice(VALUES[word])) for word in words_set)
+        rules.append((chance.choice([0, 1, 2, 50, 99]), tests, sets))
+    return rules
 
 
 def share_by_hand(total, weights):

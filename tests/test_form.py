@@ -159,9 +159,90 @@ def name_faults(tree, own_methods):
     return faults
 
 
+def locals_of(tree):
+    names = []
+    for node in ast.walk(tree):
+        if isinstance(node, (ast.FunctionDef, ast.Lambda)):
+            names.extend(part.arg for part in ast.walk(node) if isinstance(part, ast.arg))
+            names.extend(part.id for part in ast.walk(node)
+                         if isinstance(part, ast.Name) and isinstance(part.ctx, ast.Store))
+    return names
+
+
+def local_faults(tree):
+    taken = [alias.name for node in tree.body if isinstance(node, ast.ImportFrom) for alias in node.names]
+    taken += [node.name for node in tree.body if isinstance(node, ast.ClassDef)]
+    return ["L15 " + name for name in locals_of(tree) if name in taken]
+
+
+def is_call_of(node, names):
+    return isinstance(node, ast.Call) and isinstance(node.func, ast.Name) and node.func.id in names
+
+
+def is_walk(node):
+    if isinstance(node, ast.Call) and isinstance(node.func, ast.Attribute):
+        return node.func.attr in ("items", "keys", "values")
+    return is_call_of(node, ("zip", "enumerate", "reversed", "range"))
+
+
+def walked_here(node):
+    """The parts of a node in whose place something may stand that is walked at once."""
+    if isinstance(node, (ast.For, ast.comprehension)):
+        return [node.iter]
+    if is_call_of(node, ("list", "tuple", "dict", "sorted", "sum", "any", "all", "enumerate", "zip")):
+        return node.args[:1]
+    return node.args if is_call_of(node, ("min", "max")) and len(node.args) == 1 else []
+
+
+def set_held(node):
+    """The parts of a node in whose place a set may stand."""
+    if isinstance(node, ast.Compare):
+        return [node.left] + node.comparators
+    if isinstance(node, ast.BinOp) and isinstance(node.op, (ast.Sub, ast.BitAnd, ast.BitOr, ast.BitXor)):
+        return [node.left, node.right]
+    return node.args if is_call_of(node, ("sorted", "len")) and not node.keywords else []
+
+
+def walk_faults(tree):
+    walked = [part for node in ast.walk(tree) for part in walked_here(node)]
+    held = [part for node in ast.walk(tree) for part in set_held(node)]
+    faults = []
+    for node in ast.walk(tree):
+        if is_walk(node) and node not in walked:
+            faults.append("L23 a walk kept")
+        if (isinstance(node, ast.Set) or is_call_of(node, ("set", "frozenset"))) and node not in held:
+            faults.append("L24 a set kept")
+    return faults
+
+
+def class_uses(node):
+    """The parts of a node in whose place a class may stand."""
+    if isinstance(node, ast.Call):
+        return [node.func] + (node.args[1:] if is_call_of(node, ("isinstance",)) else [])
+    if isinstance(node, ast.ClassDef):
+        return node.bases
+    if isinstance(node, ast.ExceptHandler):
+        return [node.type] + (node.type.elts if isinstance(node.type, ast.Tuple) else [])
+    return [node.value] if isinstance(node, ast.Attribute) and node.attr == "__init__" else []
+
+
+def class_name_faults(tree):
+    # Classes are told from what is written in great letters alone: lists, tuples, numbers of a file's top.
+    names = [name for name in bound_names(tree) if name[0].isupper() and not name.isupper()]
+    used = [part for node in ast.walk(tree) for part in class_uses(node)]
+    return ["L18 " + node.id for node in ast.walk(tree)
+            if isinstance(node, ast.Name) and node.id in names and node not in used]
+
+
+def value_names(trees):
+    return {node.attr for tree in trees for node in ast.walk(tree)
+            if isinstance(node, ast.Attribute) and isinstance(node.ctx, ast.Store)}
+
+
 def faults_of(text, own_methods=()):
     tree = ast.parse(text)
     faults = sign_faults(text) + top_faults(tree) + name_faults(tree, own_methods)
+    faults += local_faults(tree) + walk_faults(tree) + class_name_faults(tree)
     for node in ast.walk(tree):
         if isinstance(node, ast.stmt):
             faults += statement_faults(node)
@@ -195,6 +276,10 @@ class Form(unittest.TestCase):
             with self.subTest(stem):
                 self.assertEqual(faults_of(text, own_methods), [])
 
+    def test_no_name_is_a_method_and_a_value(self):
+        trees = [ast.parse(text) for text in package_texts().values()]
+        self.assertEqual(method_names(trees) & value_names(trees), set())
+
     def test_names_are_drawn_from_the_file_that_defines_them(self):
         trees = {stem: ast.parse(text) for stem, text in package_texts().items()}
         for stem, tree in trees.items():
@@ -221,7 +306,11 @@ class Form(unittest.TestCase):
                  "def f(a):\n    return {b for b in a}", "def f(a):\n    return all(b for b in a)",
                  "def f(a):\n    return a.casefold()", "def f(list):\n    pass", "def f(a):\n    return hash(a)",
                  "class A:\n    x = 1", "def _f():\n    pass", "x = 'type'", "x = '\u00e9'", "x = '%'",
-                 "def f():\n" + "    pass\n" * 40, "x = '" + "a" * 120 + "'"]
+                 "def f():\n" + "    pass\n" * 40, "x = '" + "a" * 120 + "'",
+                 "from panehouse.a import b\ndef f(b):\n    pass", "class Ab:\n    pass\ndef f(a):\n    return [Ab]",
+                 "class Ab:\n    pass\ndef f():\n    a = Ab\n    return a()", "def f(a):\n    b = zip(a, a)",
+                 "def f(a):\n    for b in reversed(range(a)):\n        pass", "def f(a):\n    return a.items()",
+                 "def f(a):\n    b = set(a)", "def f(a):\n    for b in {1, a}:\n        pass"]
         for text in wrong:
             with self.subTest(text):
                 self.assertNotEqual(faults_of(text), [])

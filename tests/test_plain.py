@@ -2,7 +2,7 @@ import string
 import unittest
 
 from samples import not_numbers
-from panehouse.plain import is_name, is_number, is_number_list
+from panehouse.plain import is_name, is_number, is_number_list, is_within
 
 
 class Numbers(unittest.TestCase):
@@ -14,6 +14,13 @@ class Numbers(unittest.TestCase):
         for thing in not_numbers():
             with self.subTest(repr(thing)):
                 self.assertIs(is_number(thing), False)
+
+    def test_numbers_within_bounds(self):
+        self.assertEqual([n for n in range(-3, 9) if is_within(n, 2, 5)], [2, 3, 4, 5])
+        self.assertEqual([n for n in range(-3, 9) if is_within(n, 0, 0)], [0])
+        for thing in not_numbers():
+            with self.subTest(repr(thing)):
+                self.assertIs(is_within(thing, 0, 9), False)
 
     def test_lists_of_numbers(self):
         self.assertIs(is_number_list([]), True)
