@@ -54,13 +54,17 @@ def taken_rounds(too_much, parts):
     return [share_out(taken, above)]
 
 
-def fill_rounds(total, parts):
-    need_total(total)
-    need_parts(parts)
+def rounds_till(total, parts):
     begun = sum(begins_of(parts))
     if begun > total:
         return taken_rounds(begun - total, parts)
     return given_rounds(total - begun, parts)
+
+
+def fill_rounds(total, parts):
+    need_total(total)
+    need_parts(parts)
+    return rounds_till(total, parts)
 
 
 def sizes_behind(total, parts, rounds):

@@ -4,6 +4,9 @@ import random
 import unittest
 from unittest import mock
 
+from panehouse.boxes import boxes_of
+from panehouse.rules import plain_shape
+
 
 class Odd:
     """Calls itself like anything."""
@@ -43,6 +46,10 @@ def row(name, *kids):
     return ("row", name, (), None, kids)
 
 
+def box(kind, name, *kids, more=None):
+    return (kind, name, (), more, kids)
+
+
 def house():
     """A document with all kinds; its order is a b c d e f g h i j."""
     d = words("d", "Some words here", ("big", "red"))
@@ -79,6 +86,17 @@ def wide_row(name, many):
 
 def text_of_80():
     return " ".join(["a" * 20, "B" * 20, "3" * 20, "d" * 17])
+
+
+def spoilt(text, signs):
+    """The text with one sign left out, twice, changed with the next one, put in or changed for each of the signs."""
+    for at, sign in enumerate(text):
+        ahead, behind = text[:at], text[at + 1:]
+        yield from [ahead + behind, ahead + sign + sign + behind, ahead + behind[:1] + sign + behind[1:]]
+        for other in signs:
+            yield from [ahead + other + sign + behind, ahead + other + behind]
+    for other in signs:
+        yield text + other
 
 
 def no_documents():
@@ -152,6 +170,25 @@ def drawn_rules(seed, many=40):
         sets = tuple((word, chance.choice(VALUES[word])) for word in words_set)
         rules.append((chance.choice([0, 1, 2, 50, 99]), tests, sets))
     return rules
+
+
+# Of each property values that a small page can show, wanted most the ones told first.
+SMALL_VALUES = {"wide": [("hold",)] * 3 + [("fixed", 0), ("fixed", 3), ("fixed", 12), ("share", 1), ("share", 3)],
+                "high": [("hold",)] * 3 + [("fixed", 0), ("fixed", 2), ("fixed", 7), ("share", 1), ("share", 3)],
+                "leastw": [0] * 4 + [1, 4, 9], "mostw": [400] * 4 + [0, 3, 8, 20], "leasth": [0] * 4 + [1, 3],
+                "mosth": [400] * 4 + [0, 2, 5], "pad": [0, 0, 0, 1, 2], "gap": [0, 0, 1, 2], "over": [False, True],
+                "able": [False, True], "fill": ["", "", "#", "."], "ink": ["as", "great", "small"]}
+
+
+def shaped(doc, **others):
+    """Plain shapes of a document, but for what is told of a box by its name."""
+    return {box[1]: dict(plain_shape(), **others.get(box[1], {})) for box in boxes_of(doc)}
+
+
+def drawn_shapes(doc, seed):
+    """Shapes of a document, each property of each box by chance; rules by name could tell them all."""
+    chance = random.Random(seed)
+    return {box[1]: {word: chance.choice(values) for word, values in SMALL_VALUES.items()} for box in boxes_of(doc)}
 
 
 def share_by_hand(total, weights):

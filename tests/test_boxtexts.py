@@ -1,8 +1,8 @@
 import re
 import unittest
 
-from samples import (STRANGE, Refusing, blank, chain, crowd, drawn_document, house, no_documents, row, text_of_80,
-                     wide_row, words)
+from samples import (STRANGE, Refusing, blank, chain, crowd, drawn_document, house, no_documents, row, spoilt,
+                     text_of_80, wide_row, words)
 from panehouse.boxes import need_document
 from panehouse.boxtexts import document_text, read_document
 from panehouse.errors import NoBox, NoText
@@ -186,16 +186,8 @@ class Spoilt(Texts):
     def test_one_sign(self):
         let_by = 0
         for text in self.texts():
-            for at in range(len(text)):
-                ahead, sign, behind = text[:at], text[at], text[at + 1:]
-                let_by += self.check(ahead + behind)
-                let_by += self.check(ahead + sign + sign + behind)
-                let_by += self.check(ahead + behind[:1] + sign + behind[1:])
-                for other in SIGNS:
-                    let_by += self.check(ahead + other + sign + behind)
-                    let_by += self.check(ahead + other + behind)
-            for other in SIGNS:
-                self.check(text + other)
+            for other in spoilt(text, SIGNS):
+                let_by += self.check(other)
         self.assertGreater(let_by, 100)
 
     def test_one_row(self):

@@ -2,35 +2,10 @@ import copy
 import itertools
 import unittest
 
-from samples import not_numbers, share_by_hand
+from retold import rounds_by_hand, sizes_by_hand
+from samples import not_numbers
 from panehouse.errors import NoShare
 from panehouse.fills import fill_rounds, fill_sizes, is_fill
-
-
-def rounds_by_hand(total, parts):
-    """The rounds told another way: with the sizes kept, and each step written out."""
-    sizes = [part[0] for part in parts]
-    if sum(sizes) > total:
-        above = [part[0] - part[1] for part in parts]
-        taken = share_by_hand(min(sum(sizes) - total, sum(above)), above)
-        return [taken] if any(taken) else []
-    rounds = []
-    while True:
-        weights = [part[3] if size < part[2] else 0 for part, size in zip(parts, sizes)]
-        shares = share_by_hand(total - sum(sizes), weights)
-        given = [min(share, part[2] - size) for share, part, size in zip(shares, parts, sizes)]
-        if not any(given):
-            return rounds
-        rounds.append(given)
-        sizes = [size + cells for size, cells in zip(sizes, given)]
-
-
-def sizes_by_hand(total, parts):
-    sizes = [part[0] for part in parts]
-    sign = -1 if sum(sizes) > total else 1
-    for cells in rounds_by_hand(total, parts):
-        sizes = [size + sign * n for size, n in zip(sizes, cells)]
-    return sizes
 
 
 class Filled(unittest.TestCase):

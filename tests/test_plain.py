@@ -2,7 +2,7 @@ import string
 import unittest
 
 from samples import not_numbers
-from panehouse.plain import is_name, is_number, is_number_list, is_within
+from panehouse.plain import is_name, is_number, is_number_list, is_within, number_in
 
 
 class Numbers(unittest.TestCase):
@@ -30,6 +30,18 @@ class Numbers(unittest.TestCase):
         for thing in [(), (1,), None, "", "12", {}, {1: 1}, 5, [True], [0, False], [-1], [1.0], [[1]], [None]]:
             with self.subTest(repr(thing)):
                 self.assertIs(is_number_list(thing), False)
+
+
+class Written(unittest.TestCase):
+    def test_numbers(self):
+        for n in [0, 1, 9, 10, 99, 100, 400, 10 ** 3999]:
+            self.assertEqual(number_in(str(n)), n)
+
+    def test_all_else(self):
+        for text in ["", "00", "01", "007", "+1", "-1", "-0", " 1", "1 ", "1_0", "1.0", "1\n", "a", "1a", "0x1",
+                     "\u0663", "\u00b2", "\uff11", "9" * 5000]:
+            with self.subTest(text):
+                self.assertIsNone(number_in(text))
 
 
 class Names(unittest.TestCase):
