@@ -88,6 +88,10 @@ def boxes_of(doc):
     return boxes
 
 
+def kid_names(box):
+    return [kid[1] for kid in box[4]]
+
+
 def names_of(doc):
     return [box[1] for box in boxes_of(doc)]
 

@@ -1,6 +1,7 @@
 """Lines: how a box's kids stand in it, and how wide each is."""
 
 from panehouse.across import asked_wide, inside_of, limited_wide, room_of
+from panehouse.boxes import kid_names
 from panehouse.fills import fill_rounds, fill_sizes
 from panehouse.shares import share_out
 
@@ -27,7 +28,7 @@ def part_in_flow(shape, need, inside):
 
 
 def parts_in(box, shapes, needs, wide):
-    names = [kid[1] for kid in box[4]]
+    names = kid_names(box)
     if box[0] == "row":
         return [part_in_row(shapes[name], needs[name]) for name in names]
     inside = inside_of(shapes[box[1]], wide)

@@ -1,6 +1,6 @@
 """Rules: what they are, for which boxes, and the shape where there are none."""
 
-from panehouse.boxes import MOST_KIDS, is_kind
+from panehouse.boxes import MOST_KIDS, is_kind, kid_names
 from panehouse.errors import NoRule
 from panehouse.plain import is_name, is_within
 
@@ -116,7 +116,7 @@ def is_called(box, name):
 def holds_about(test, way):
     box = way[-1]
     about = way[-2]
-    names = [kid[1] for kid in about[4]]
+    names = kid_names(about)
     if test[0] == "first":
         return names[0] == box[1]
     if test[0] == "last":

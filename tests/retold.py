@@ -209,3 +209,109 @@ def lay_by_hand(doc, shapes, wide=80, high=24):
     share = root.shape["high"][0] == "share"
     root.lay_down(0, 0, root.down_bounds(high) if share else root.natural)
     return root
+
+
+class Stub(Laid):
+    """A kid as its paper tells it: it only keeps where and how large it is put."""
+
+    def __init__(self, box, shapes, paper):
+        self.name, self.shape, self.kids = box[1], shapes[box[1]], []
+        self.least, self.hold, self.natural = paper[:3]
+
+    def lay_across(self, wide):
+        self.wide = wide
+
+    def lay_down(self, x, y, high):
+        self.x, self.y, self.high = x, y, high
+
+
+class Held(Laid):
+    """A box with stubs as kids."""
+
+    def __init__(self, box, shapes, papers):
+        super().__init__(box[:4] + ((),), shapes)
+        self.kids = [Stub(kid, shapes, papers[kid[1]]) for kid in box[4]]
+        self.least, self.hold = self.needs()
+
+    def fill_line(self, parts, inside):
+        if not all(part[1] <= part[0] <= part[2] for part in parts):
+            raise ArithmeticError("parts that can't be filled")
+        return super().fill_line(parts, inside)
+
+
+def is_whole(thing, least, most):
+    return type(thing) is int and least <= thing <= most
+
+
+def has_spot(thing):
+    if type(thing) is not tuple or len(thing) != 4 or not all(is_whole(n, 0, 400) for n in thing[2:]):
+        return False
+    return all(type(n) is int for n in thing[:2])
+
+
+def has_paper(thing):
+    if type(thing) is not tuple or [type(part) for part in thing] != [int] * 3 + [list] * 3:
+        return False
+    return all(is_whole(n, 0, 400) for n in thing[:3]) and thing[0] <= thing[1]
+
+
+def fails_by_hand(box, shapes, layout, papers):
+    """Whether a box fails, told another way: it is laid with stubs in its kids' place; like texts are like things."""
+    for name in [box[1]] + [kid[1] for kid in box[4]]:
+        if not has_spot(layout.get(name)) or not has_paper(papers.get(name)):
+            return True
+    x, y, wide, high = layout[box[1]]
+    held = Held(box, shapes, papers)
+    try:
+        held.lay_across(wide)
+    except ArithmeticError:
+        return True
+    held.lay_down(x, y, high)
+    if [(kid.x, kid.y, kid.wide, kid.high) for kid in held.kids] != [layout[kid.name] for kid in held.kids]:
+        return True
+    return repr(held.paper()) != repr(papers[box[1]])
+
+
+def root_fails_by_hand(doc, shapes, wide, high, layout, papers):
+    if fails_by_hand(doc, shapes, layout, papers):
+        return True
+    root = Held(doc, shapes, papers)
+    natural = papers[doc[1]][2]
+    tall = root.down_bounds(high) if root.shape["high"][0] == "share" else natural
+    return layout[doc[1]] != (0, 0, root.asked(wide), tall)
+
+
+def failing_by_hand(doc, shapes, wide, high, layout, papers):
+    boxes = Laid(doc, shapes).all()
+    whole = {}
+
+    def gather(box):
+        whole[box[1]] = box
+        for kid in box[4]:
+            gather(kid)
+    gather(doc)
+    names = [one.name for one in boxes[1:] if fails_by_hand(whole[one.name], shapes, layout, papers)]
+    return [doc[1]] * root_fails_by_hand(doc, shapes, wide, high, layout, papers) + names
+
+
+def taken_by_hand(doc, shapes, wide, high):
+    """Of each box, in order, a dict of what its laying takes, by the words that are told."""
+    taken = {}
+    for one in lay_by_hand(doc, shapes, wide, high).all():
+        kids = one.kids
+        taken[one.name] = {"box": (one.kind, one.more, [kid.name for kid in kids]),
+                           "shape": [shapes[name] for name in [one.name] + [kid.name for kid in kids]],
+                           "kids": [(kid.least, kid.hold, kid.natural) for kid in kids],
+                           "wide": one.wide, "high": one.high}
+    return taken
+
+
+def laid_by_hand(ahead, behind):
+    """What is told as laid anew between two of taken_by_hand."""
+    told = []
+    for name, took in behind.items():
+        words = ("new",)
+        if name in ahead:
+            words = tuple(word for word in took if took[word] != ahead[name][word])
+        told += [(name, words)] if words else []
+    return told

@@ -236,8 +236,8 @@ class Spoilt(Texts):
             for at, word in enumerate(words):
                 let_by += self.check(" ".join(words[:at] + words[at + 1:]))
                 let_by += self.check(" ".join(words[:at] + [word, word] + words[at + 1:]))
-                for other in ["rule", "1", ":", ";", "", "first", "nth", "row", "in", "under", "#a", ".a", "pad", "pad 1;",
-                              "gap 2;", "fill", "none", "hold", "share", "yes"]:
+                for other in ["rule", "1", ":", ";", "", "first", "nth", "row", "in", "under", "#a", ".a", "pad",
+                              "pad 1;", "gap 2;", "fill", "none", "hold", "share", "yes"]:
                     let_by += self.check(" ".join(words[:at] + [other] + words[at:]))
                     let_by += self.check(" ".join(words[:at] + [other] + words[at + 1:]))
         self.assertGreater(let_by, 30)
