@@ -315,3 +315,44 @@ def laid_by_hand(ahead, behind):
             words = tuple(word for word in took if took[word] != ahead[name][word])
         told += [(name, words)] if words else []
     return told
+
+
+def cells_in(x, y, wide, high):
+    return {(left, top) for left in range(x, x + wide) for top in range(y, y + high)}
+
+
+def ways_by_hand(box, about=()):
+    """Each box with those about it, the root first, in order."""
+    way = about + (box,)
+    return [way] + [inner for kid in box[4] for inner in ways_by_hand(kid, way)]
+
+
+def seen_by_hand(doc, shapes, layout, wide, high):
+    """Of each name, in order, the set of the cells that are seen."""
+    seen = {}
+    for way in ways_by_hand(doc):
+        cells = cells_in(0, 0, wide, high) & cells_in(*layout[way[-1][1]])
+        for about in way[:-1]:
+            if shapes[about[1]]["over"] is False:
+                cells &= cells_in(*layout[about[1]])
+        seen[way[-1][1]] = cells
+    return seen
+
+
+def drawn_by_hand(doc, shapes, layout, wide, high):
+    """The drawing told another way: cell by cell."""
+    signs = {cell: " " for cell in cells_in(0, 0, wide, high)}
+    seen = seen_by_hand(doc, shapes, layout, wide, high)
+    for way in ways_by_hand(doc):
+        kind, name, tags, more, kids = way[-1]
+        shape = shapes[name]
+        if shape["fill"]:
+            signs.update({cell: shape["fill"] for cell in seen[name]})
+        if kind == "words":
+            x, y, across, down = layout[name]
+            for nth, one in enumerate(rows_by_hand(more, max(across - 2 * shape["pad"], 0))):
+                for at, sign in enumerate(one):
+                    cell = (x + shape["pad"] + at, y + shape["pad"] + nth)
+                    ink = {"as": sign, "great": sign.upper(), "small": sign.lower()}[shape["ink"]]
+                    signs.update({cell: ink} if cell in seen[name] else {})
+    return ["".join(signs[x, y] for x in range(wide)) for y in range(high)]

@@ -1,5 +1,6 @@
 import copy
 
+from retold import ways_by_hand
 from samples import (STRANGE, VALUES, Refusing, blank, chain, crowd, drawn_document, drawn_rules, house, no_documents,
                      no_rules, row, wide_row, words)
 from panehouse.boxes import names_of
@@ -10,12 +11,6 @@ from panehouse.shapes import cause, shapes_of
 ORDER = list(VALUES)
 NO_NAMES = STRANGE + ["k", "A", "aa", "big", "left", "abcdefghi", 0, ["a"], ("a",)]
 NO_WORDS = STRANGE + ["Wide", "width", "k", "wide ", 0, ["wide"], ("wide",), ("hold",), "kind"]
-
-
-def all_ways(box, about=()):
-    """Each box with those about it, the root first, in order."""
-    way = about + (box,)
-    return [way] + [inner for kid in box[4] for inner in all_ways(kid, way)]
 
 
 def holds(test, way):
@@ -36,7 +31,7 @@ def by_hand(doc, rules):
     """The shapes and causes told another way: property by property, the rule of the greatest pair of rank and place."""
     shapes = {}
     causes = {}
-    for way in all_ways(doc):
+    for way in ways_by_hand(doc):
         name = way[-1][1]
         shapes[name] = {}
         for word in ORDER:
