@@ -317,8 +317,11 @@ def laid_by_hand(ahead, behind):
     return told
 
 
-def cells_in(x, y, wide, high):
-    return {(left, top) for left in range(x, x + wide) for top in range(y, y + high)}
+def cells_in(wide, high, spot):
+    """The cells of a page that are in a rectangle."""
+    x, y, across, down = spot
+    return {(left, top) for left in range(wide) if x <= left < x + across
+            for top in range(high) if y <= top < y + down}
 
 
 def ways_by_hand(box, about=()):
@@ -331,17 +334,17 @@ def seen_by_hand(doc, shapes, layout, wide, high):
     """Of each name, in order, the set of the cells that are seen."""
     seen = {}
     for way in ways_by_hand(doc):
-        cells = cells_in(0, 0, wide, high) & cells_in(*layout[way[-1][1]])
+        cells = cells_in(wide, high, layout[way[-1][1]])
         for about in way[:-1]:
             if shapes[about[1]]["over"] is False:
-                cells &= cells_in(*layout[about[1]])
+                cells &= cells_in(wide, high, layout[about[1]])
         seen[way[-1][1]] = cells
     return seen
 
 
 def drawn_by_hand(doc, shapes, layout, wide, high):
     """The drawing told another way: cell by cell."""
-    signs = {cell: " " for cell in cells_in(0, 0, wide, high)}
+    signs = {cell: " " for cell in cells_in(wide, high, (0, 0, wide, high))}
     seen = seen_by_hand(doc, shapes, layout, wide, high)
     for way in ways_by_hand(doc):
         kind, name, tags, more, kids = way[-1]
