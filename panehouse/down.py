@@ -22,14 +22,17 @@ def natural_lines(box, naturals, lines):
     return [tallest(sizes, line) for line in lines]
 
 
+def inner_high(box, shape, naturals, lines, wide):
+    if box[0] == "words":
+        return len(broken(box[3], inside_of(shape, wide)))
+    if box[0] == "pile":
+        return max(naturals_in(box, naturals), default=0)
+    return sum(natural_lines(box, naturals, lines)) + gaps_of(shape, len(lines))
+
+
 def natural_of(box, shapes, naturals, lines, wide):
     shape = shapes[box[1]]
-    if box[0] == "words":
-        inner = len(broken(box[3], inside_of(shape, wide)))
-    else:
-        # The one line of a pile has no gaps, so a pile is like the others here.
-        inner = sum(natural_lines(box, naturals, lines)) + gaps_of(shape, len(lines))
-    size = inner + 2 * shape["pad"]
+    size = inner_high(box, shape, naturals, lines, wide) + 2 * shape["pad"]
     if shape["high"][0] == "fixed":
         size = shape["high"][1]
     return limited_high(shape, size)

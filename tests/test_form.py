@@ -234,6 +234,56 @@ def class_name_faults(tree):
             if isinstance(node, ast.Name) and node.id in names and node not in used]
 
 
+def keyword_faults(tree):
+    let_by = {"sorted": ("key", "reverse"), "min": ("key", "default"), "max": ("key", "default"), "sum": ("start",),
+              "enumerate": ("start",), "zip": ("strict",)}
+    faults = []
+    for node in ast.walk(tree):
+        if isinstance(node, ast.Call) and node.keywords:
+            name = node.func.id if isinstance(node.func, ast.Name) else ""
+            own = name in bound_names(tree)
+            if not own and not all(one.arg in let_by.get(name, ()) for one in node.keywords):
+                faults.append("L22 a keyword")
+    return faults
+
+
+def error_faults(tree):
+    taken = ("KeyError", "ZeroDivisionError", "StopIteration")
+    faults = []
+    for node in ast.walk(tree):
+        if isinstance(node, ast.ExceptHandler):
+            if not isinstance(node.type, ast.Name) or node.type.id not in bound_names(tree) + list(taken):
+                faults.append("L19 an error taken")
+        if isinstance(node, ast.Raise) and not isinstance(node.exc, ast.Call):
+            faults.append("L19 an error raised")
+    return faults
+
+
+def read_only(node):
+    """The parts of a node in whose place a list or dict of a file's top may stand."""
+    if isinstance(node, ast.Subscript) and isinstance(node.ctx, ast.Load):
+        return [node.value]
+    if isinstance(node, ast.Compare):
+        return node.comparators
+    if isinstance(node, (ast.For, ast.comprehension)):
+        return [node.iter]
+    if isinstance(node, ast.Attribute) and node.attr in ("get", "items", "keys", "values", "index", "count"):
+        return [node.value]
+    return node.args if is_call_of(node, ("len", "list", "dict", "tuple", "sorted")) else []
+
+
+def kept_faults(tree, tops):
+    let_by = [part for node in ast.walk(tree) for part in read_only(node)]
+    return ["L15 " + node.id for node in ast.walk(tree)
+            if isinstance(node, ast.Name) and isinstance(node.ctx, ast.Load) and node.id in tops
+            and node not in let_by]
+
+
+def tops_of(tree):
+    return [node.targets[0].id for node in tree.body
+            if isinstance(node, ast.Assign) and isinstance(node.value, (ast.List, ast.Dict))]
+
+
 def value_names(trees):
     return {node.attr for tree in trees for node in ast.walk(tree)
             if isinstance(node, ast.Attribute) and isinstance(node.ctx, ast.Store)}
@@ -243,6 +293,7 @@ def faults_of(text, own_methods=()):
     tree = ast.parse(text)
     faults = sign_faults(text) + top_faults(tree) + name_faults(tree, own_methods)
     faults += local_faults(tree) + walk_faults(tree) + class_name_faults(tree)
+    faults += keyword_faults(tree) + error_faults(tree) + kept_faults(tree, tops_of(tree))
     for node in ast.walk(tree):
         if isinstance(node, ast.stmt):
             faults += statement_faults(node)
@@ -280,6 +331,16 @@ class Form(unittest.TestCase):
         trees = [ast.parse(text) for text in package_texts().values()]
         self.assertEqual(method_names(trees) & value_names(trees), set())
 
+    def test_own_methods_and_values_are_called_otherwise_than_pythons(self):
+        trees = [ast.parse(text) for text in package_texts().values()]
+        taken = {name for own in (str, int, list, tuple, dict, set, bytes) for name in dir(own)} - {"__init__"}
+        self.assertEqual((method_names(trees) | value_names(trees)) & taken, set())
+
+    def test_lists_and_dicts_of_a_top_are_only_read_elsewhere_too(self):
+        trees = [ast.parse(text) for text in package_texts().values()]
+        tops = [name for tree in trees for name in tops_of(tree)]
+        self.assertEqual([fault for tree in trees for fault in kept_faults(tree, tops)], [])
+
     def test_names_are_drawn_from_the_file_that_defines_them(self):
         trees = {stem: ast.parse(text) for stem, text in package_texts().items()}
         for stem, tree in trees.items():
@@ -310,7 +371,12 @@ class Form(unittest.TestCase):
                  "from panehouse.a import b\ndef f(b):\n    pass", "class Ab:\n    pass\ndef f(a):\n    return [Ab]",
                  "class Ab:\n    pass\ndef f():\n    a = Ab\n    return a()", "def f(a):\n    b = zip(a, a)",
                  "def f(a):\n    for b in reversed(range(a)):\n        pass", "def f(a):\n    return a.items()",
-                 "def f(a):\n    b = set(a)", "def f(a):\n    for b in {1, a}:\n        pass"]
+                 "def f(a):\n    b = set(a)", "X = {}\ndef f():\n    return X",
+                 "X = []\ndef f():\n    X.append(1)",
+                 "X = []\ndef f():\n    X[0] = 1", "def f(a):\n    return str(object=a)",
+                 "def f(a):\n    try:\n        a()\n    except ValueError:\n        pass",
+                 "def f(a):\n    try:\n        a()\n    except Exception as e:\n        raise e",
+                 "def f(a):\n    for b in {1, a}:\n        pass"]
         for text in wrong:
             with self.subTest(text):
                 self.assertNotEqual(faults_of(text), [])
